@@ -1,0 +1,1 @@
+"""Monthclamp: lists of month steps and what they do to dates."""
