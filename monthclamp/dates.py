@@ -12,3 +12,10 @@ def check_date(date):
         raise InvalidDate(date)
     if day < 1 or day > days_in(year, month):
         raise InvalidDate(date)
+
+
+def last_date(place):
+    """Return the last date of a month, which is counted on from January of year 0."""
+    year = place // 12
+    month = place % 12 + 1
+    return (year, month, days_in(year, month))

@@ -2,6 +2,9 @@
 
 from monthclamp.errors import InvalidNumber
 
+# After this many months leap years, and with them the lengths of months, repeat.
+CYCLE = 4800
+
 _DAYS_IN_COMMON_YEAR = (31, 28, 31, 30, 31, 30, 31, 31, 30, 31, 30, 31)
 
 

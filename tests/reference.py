@@ -35,6 +35,16 @@ def stride(date, steps):
     return date
 
 
+def jump(date, steps):
+    """Move a date as walk does, each step at once, over the lengths of a cycle."""
+    year, month, day = date
+    place = 12 * year + month - 1
+    for step in steps:
+        place += step
+        day = min(day, LENGTHS[place % CYCLE])
+    return (place // 12, place % 12 + 1, day)
+
+
 def smallest_lengths(steps):
     """Return, for a start in each month of a cycle, the smallest length of a visited month."""
     place = 0

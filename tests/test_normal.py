@@ -7,19 +7,7 @@ import reference
 from monthclamp.normal import commute, normal_form, same_effect
 from monthclamp.steps import move, visits
 from reference import through
-
-FAR = 10 ** 30
-
-STEPS = [0] + [
-    sign * size
-    for sign in (1, -1)
-    for size in (1, 2, 11, 12, 13, 24, 36, 48, 49, 96, 1152, 1200, 1248, 2400, 3600, 4752, 4800)
-]
-
-
-def place(a, q, r=0):
-    """Return the visit that [9] writes as 12 * (a + 4 * q) + r."""
-    return 12 * (a + 4 * q) + r
+from samples import FAR, STEPS, lists_for_comparison, place
 
 
 def forms(*places):
@@ -185,28 +173,6 @@ class NormalFormTest(unittest.TestCase):
         self.assertEqual(move((2024, 1, 31), long), reference.stride((2024, 1, 31), long))
         self.assertTrue(same_effect(long + steps, long + steps))
         self.assertIn(commute(long, steps), (True, False))
-
-
-def lists_for_comparison():
-    """Return lists among which many have the same effect in different ways."""
-    source = random.Random(12)
-    found = [[], [0], [0, 0], [12], [-12], [1], [-1], [1, 0], [4800, -4800], [4801], [4800, 1], [1, 4800]]
-    for size in (12, 24, 36, 48, 96, 1200, 2400, 3600, 4752, 4800, 6000):
-        found += [[size, -size], [-size, size], [size, -size, -size, size], [size], [-size], [size, size, -size]]
-    for _ in range(25):
-        steps = [source.choice(STEPS) for _ in range(source.randrange(1, 7))]
-        other = list(steps)
-        source.shuffle(other)
-        at = source.randrange(len(steps) + 1)
-        cycles = source.choice((4800, -4800, 4800 * 10 ** 26))
-        found += [steps, other, steps[::-1], steps[:at] + [0] + steps[at:], steps[:at] + [cycles, -cycles] + steps[at:]]
-    both = [place(0, q) for q in range(50)]
-    for left_out in ([], [25], [30, 31], [49], [7, 32], [6, 7, 32], list(range(26, 50))):
-        kept = [p for p in both if p // 48 not in left_out]
-        found += [through(kept + [0]), through(kept[::-1] + [0]), through(kept + [4800, 0]), through(kept + [3600, 0])]
-        source.shuffle(kept)
-        found += [through([p + 4800 * source.randrange(-3, 4) for p in kept] + [0])]
-    return found
 
 
 class SameEffectTest(unittest.TestCase):

@@ -24,6 +24,15 @@ INTERFACE = {
         "same_effect": ["first", "second"],
         "commute": ["first", "second"],
     },
+    "parting": {"parting_date": ["first", "second"]},
+    "shortest": {"fewest_steps": ["steps"], "shortest_list": ["steps"]},
+    "origins": {"origins": ["steps", "date"], "uncut_dates": ["steps"]},
+    "renewals": {
+        "renew": ["date", "step", "times"],
+        "anchored": ["date", "step", "times"],
+        "renewal_dates": ["date", "step"],
+        "first_difference": ["date", "step"],
+    },
 }
 
 

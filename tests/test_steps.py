@@ -6,18 +6,7 @@ import unittest
 import reference
 from monthclamp.errors import InvalidDate
 from monthclamp.steps import move, visits
-
-FAR = 10 ** 30
-
-WRONG_DATES = (
-    (2023, 0, 1), (2023, 13, 1), (2023, -1, 1), (2023, -11, 1), (2023, FAR, 1), (2023, -FAR, 1),
-    (2023, 1, 0), (2023, 1, -1), (2023, 1, 32), (2023, 1, FAR), (2023, 1, -FAR),
-    (2023, 2, 29), (2023, 2, 30), (2023, 2, 31), (2024, 2, 30), (2024, 2, 31),
-    (1900, 2, 29), (2100, 2, 29), (100, 2, 29), (-100, 2, 29), (-1, 2, 29), (FAR + 1, 2, 29), (-FAR + 100, 2, 29),
-    (2023, 4, 31), (2023, 6, 31), (2023, 9, 31), (2023, 11, 31),
-    (2023, 3, 32), (2023, 5, 32), (2023, 7, 32), (2023, 8, 32), (2023, 10, 32), (2023, 12, 32),
-    (0, 0, 0), (2023, 13, 32), (2023, 0, 0), (2023, 12, 0),
-)
+from samples import FAR, WRONG_DATES, random_date
 
 # Zeros, single months, whole years, cycles of leap years, and both signs of each.
 STEPS = [0] + [
@@ -25,14 +14,6 @@ STEPS = [0] + [
     for sign in (1, -1)
     for size in (1, 2, 5, 7, 11, 12, 13, 24, 36, 48, 60, 600, 1188, 1200, 1201, 2400, 4799, 4800, 4801)
 ]
-
-
-def random_date(source, years):
-    """Return a date that exists, late days more often than early ones."""
-    year = source.choice(years) + source.randrange(-5, 6)
-    month = source.choice((1, 2, 2, 3, 4, 5, 6, 7, 8, 9, 10, 11, 12))
-    last = reference.length(year, month)
-    return (year, month, source.choice((1, source.randint(1, last), last - 2, last - 1, last, last)))
 
 
 class DateCheckTest(unittest.TestCase):
@@ -94,6 +75,13 @@ class MoveTest(unittest.TestCase):
             year, month, day = date
             self.assertEqual(reference.walk(date, [4800]), (year + 400, month, day))
             self.assertEqual(reference.walk(date, [-4800]), (year - 400, month, day))
+
+    def test_the_model_jumps_as_it_walks(self):
+        source = random.Random(4)
+        for _ in range(300):
+            date = random_date(source, (0, 100, 2000, -100, FAR))
+            steps = [source.choice(STEPS) for _ in range(source.randrange(6))]
+            self.assertEqual(reference.jump(date, steps), reference.walk(date, steps), (date, steps))
 
     def test_single_steps_month_by_month(self):
         for date in ((2023, 1, 31), (2024, 2, 29), (2000, 2, 29), (1999, 12, 30), (0, 5, 31), (-3, 10, 29), (-1, 1, 1)):
