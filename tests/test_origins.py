@@ -118,7 +118,8 @@ class OriginsTest(unittest.TestCase):
         source = random.Random(43)
         for _ in range(300):
             steps = [
-                source.choice((source.randint(-FAR, FAR), FAR, -FAR, 1, -1200)) for _ in range(source.choice((1, 2, 60)))
+                source.choice((source.randint(-FAR, FAR), FAR, -FAR, 1, -1200))
+                for _ in range(source.choice((1, 2, 60)))
             ]
             date = random_date(source, (0, FAR, -FAR, 10 ** 29 + 100))
             self.assert_origins(steps, date)

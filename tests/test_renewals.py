@@ -104,7 +104,7 @@ class RenewTest(unittest.TestCase):
 
     def test_every_number_of_repetitions_around_a_cycle(self):
         for date, step in (((2000, 2, 29), 4812), ((2023, 12, 31), 1)):
-            for times in list(range(10)) + list(range(CYCLE - 5, CYCLE + 6)) + list(range(2 * CYCLE - 2, 2 * CYCLE + 3)):
+            for times in [*range(10), *range(CYCLE - 5, CYCLE + 6), *range(2 * CYCLE - 2, 2 * CYCLE + 3)]:
                 self.assertEqual(renew(date, step, times), reference.jump(date, [step] * times))
 
     def test_many(self):
@@ -294,7 +294,8 @@ class FirstDifferenceTest(unittest.TestCase):
 
     def test_the_first_difference_after_very_many_repetitions(self):
         for date, step, told in (
-            ((2004, 2, 29), 48, 25), ((2304, 2, 29), 48, 50), ((304, 2, 29), 48, 50), ((258, 10, 29), 4304, 150), ((2258, 10, 29), 4304, 150),
+            ((2004, 2, 29), 48, 25), ((2304, 2, 29), 48, 50), ((304, 2, 29), 48, 50),
+            ((258, 10, 29), 4304, 150), ((2258, 10, 29), 4304, 150),
             ((258 - 800, 10, 29), 4304 + 4800 * 10 ** 26, 150), ((258 + 400 * 10 ** 27, 10, 29), 4304 - 9600, 150),
         ):
             self.assertEqual(first_difference(date, step), difference(date, step, 2 * CYCLE), (date, step))
