@@ -7,6 +7,8 @@ import unittest
 import warnings
 from pathlib import Path
 
+from monthclamp.plans import Plan
+
 PACKAGE = Path(__file__).resolve().parent.parent / "monthclamp"
 
 INTERFACE = {
@@ -33,6 +35,22 @@ INTERFACE = {
         "renewal_dates": ["date", "step"],
         "first_difference": ["date", "step"],
     },
+    "counting": {"count_effects": ["total"]},
+    "plans": {"Plan": ["self", "start"]},
+    "texts": {"show_date": ["date"], "show_steps": ["steps"]},
+    "readings": {"read_date": ["text"], "read_steps": ["text"]},
+}
+
+# What the interface lists for the class Plan, which is to be defined in it itself.
+PLAN = {
+    "start": ["self"],
+    "date": ["self"],
+    "lost": ["self"],
+    "step": ["self", "months"],
+    "undo": ["self"],
+    "restart": ["self", "date"],
+    "history": ["self"],
+    "read": ["cls", "text"],
 }
 
 
@@ -51,6 +69,13 @@ class InterfaceTest(unittest.TestCase):
                 self.assertEqual(thing.__module__, f"monthclamp.{file}", name)
                 if told is not None:
                     self.assertEqual(parameters(thing), told, name)
+
+    def test_each_method_of_a_plan_is_defined_in_the_class_with_its_parameters(self):
+        self.assertEqual(Plan.__bases__, (object,))
+        for name, told in PLAN.items():
+            thing = vars(Plan)[name]
+            call = thing.fget if isinstance(thing, property) else getattr(thing, "__func__", thing)
+            self.assertEqual(parameters(call), told, name)
 
 
 class FilesTest(unittest.TestCase):
